@@ -1,0 +1,1 @@
+"""Leafsplits: the pages of a database index after runs of inserts."""

@@ -1,0 +1,21 @@
+"""Tests of values that may be of any kind."""
+
+
+def is_integer(value):
+    """Whether a value is an integer."""
+    return isinstance(value, int) and not isinstance(value, bool)
+
+
+def is_between(value, least, most):
+    """Whether a value is an integer from the least to the most one."""
+    return is_integer(value) and least <= value <= most
+
+
+def is_list(value, least, most):
+    """Whether a value is a list with at least and at most so many items."""
+    return isinstance(value, list) and least <= len(value) <= most
+
+
+def is_pair(value):
+    """Whether a value is a tuple of two items."""
+    return isinstance(value, tuple) and len(value) == 2

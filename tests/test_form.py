@@ -1,0 +1,49 @@
+"""The form of the package's files: the limits of ../shared/LANGUAGE.md that are mere numbers."""
+
+import ast
+import pathlib
+import unittest
+
+PACKAGE = pathlib.Path(__file__).resolve().parent.parent / "leafsplits"
+LIBRARY = ("heapq", "math", "itertools", "collections")
+
+
+class FormTest(unittest.TestCase):
+    def setUp(self):
+        self.texts = {path.name: path.read_text("ascii") for path in sorted(PACKAGE.glob("*.py"))}
+
+    def test_there_are_files(self):
+        self.assertIn("__init__.py", self.texts)
+        self.assertGreater(len(self.texts), 1)
+
+    def test_lines(self):
+        for name, text in self.texts.items():
+            lines = text.split("\n")
+            self.assertLessEqual(len(lines), 399, name)
+            for line in lines:
+                self.assertLessEqual(len(line), 120, name)
+                self.assertTrue(all(" " <= sign <= "~" for sign in line), name)
+                self.assertEqual(line, line.rstrip(), name)
+
+    def test_functions(self):
+        for name, text in self.texts.items():
+            for node in ast.walk(ast.parse(text)):
+                if isinstance(node, ast.FunctionDef):
+                    lines = node.end_lineno - node.lineno + 1
+                    self.assertLessEqual(lines, 40, (name, node.name))
+
+    def test_imports(self):
+        for name, text in self.texts.items():
+            for node in ast.walk(ast.parse(text)):
+                self.assertNotIsInstance(node, ast.Import, name)
+                if isinstance(node, ast.ImportFrom):
+                    self.assertEqual(node.level, 0, name)
+                    head, _, file = node.module.partition(".")
+                    if head == "leafsplits":
+                        self.assertIn(f"{file}.py", self.texts)
+                    else:
+                        self.assertIn(node.module, LIBRARY, name)
+
+
+if __name__ == "__main__":
+    unittest.main()
