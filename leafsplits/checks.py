@@ -19,3 +19,8 @@ def is_list(value, least, most):
 def is_pair(value):
     """Whether a value is a tuple of two items."""
     return isinstance(value, tuple) and len(value) == 2
+
+
+def is_word(value, words):
+    """Whether a value is one of these strings."""
+    return isinstance(value, str) and value in words

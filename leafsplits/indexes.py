@@ -1,9 +1,9 @@
 """Indexes: pages of entries, and pages of pages above them."""
 
 from leafsplits.checks import is_between, is_list, is_pair
-from leafsplits.errors import InvalidEntry, InvalidLevel, InvalidLevels, InvalidPage
+from leafsplits.errors import InvalidEntry, InvalidIndex, InvalidLevel, InvalidLevels, InvalidPage
 from leafsplits.levels import item_count, items_ahead, merged, page_count, page_with, size_at
-from leafsplits.rules import check_rule
+from leafsplits.rules import check_rule, most_held
 
 MOST_LEVELS = 100
 MOST_TUPLES = 12
@@ -31,8 +31,7 @@ def _is_empty_leaf(level):
 
 def _fits(rule, levels, level):
     """Whether a level is right, if all levels below it are."""
-    most = rule.leaf if level == 0 else rule.inner
-    if not _is_level(levels[level], most):
+    if not _is_level(levels[level], most_held(rule, level)):
         return False
     if level > 0 and item_count(levels[level]) != page_count(levels[level - 1]):
         return False
@@ -147,3 +146,16 @@ class PageIndex:
 def new_index(rule):
     """The index without entries."""
     return PageIndex(rule, [[(0, 1)]])
+
+
+def built_index(rule, levels):
+    """The index with levels that an index can have, also where PageIndex would not take so many tuples."""
+    index = new_index(rule)
+    index._levels = [merged(level) for level in levels]
+    return index
+
+
+def check_index(index):
+    """Raises InvalidIndex unless the value is a PageIndex."""
+    if not isinstance(index, PageIndex):
+        raise InvalidIndex("not a PageIndex")

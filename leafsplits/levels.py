@@ -42,12 +42,34 @@ def page_with(level, item):
     return page
 
 
+def page_ahead(level, gap):
+    """The page with the item right ahead of a gap, or the first page for the gap 0."""
+    return page_with(level, gap - 1) if gap > 0 else 0
+
+
+def part(level, first, behind):
+    """The pages from a first one on, up to one that is left out."""
+    found = []
+    page = 0
+    for size, times in level:
+        kept = min(page + times, behind) - max(page, first)
+        if kept > 0:
+            found.append((size, kept))
+        page += times
+    return found
+
+
+def replaced(level, first, behind, groups):
+    """The level with other pages instead of those from a first one on, up to one that stays."""
+    return part(level, 0, first) + groups + part(level, behind, page_count(level))
+
+
 def merged(level):
-    """The same level, told as a new list with unlike sizes side by side."""
+    """The same level, told as a new list with unlike sizes side by side, each at least once."""
     told = []
     for size, times in level:
         if told and told[-1][0] == size:
             told[-1] = (size, told[-1][1] + times)
-        else:
+        elif times > 0:
             told.append((size, times))
     return told

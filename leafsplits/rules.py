@@ -79,3 +79,18 @@ def check_rule(rule):
     """Raises InvalidRule(None) unless the value is a Rule."""
     if not isinstance(rule, Rule):
         raise InvalidRule(None)
+
+
+def most_held(rule, level):
+    """How many items a page of a level holds at most."""
+    return rule.leaf if level == 0 else rule.inner
+
+
+def stays(rule, level):
+    """How many items stay in a page of a level that is split."""
+    return rule.leaf_stays if level == 0 else rule.inner_stays
+
+
+def goes(rule, level):
+    """How many items of a page of a level that is split go to the new one."""
+    return rule.leaf_goes if level == 0 else rule.inner_goes

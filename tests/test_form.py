@@ -5,6 +5,20 @@ import pathlib
 import unittest
 
 PACKAGE = pathlib.Path(__file__).resolve().parent.parent / "leafsplits"
+INTERFACE = {
+    "rules": {"Rule": ["leaf", "leaf_stays", "leaf_goes", "inner", "inner_stays", "inner_goes"]},
+    "indexes": {"PageIndex": ["rule", "levels", "entries", "height", "pages", "size", "above", "child", "span", "path"],
+                "new_index": ["rule"]},
+    "runs": {"run": ["index", "kind", "gap", "number"], "dropped": ["index", "first", "last"],
+             "played": ["index", "script"]},
+    "moments": {"splits": ["index", "kind", "gap", "number", "level"],
+                "split_moment": ["index", "kind", "gap", "level", "count"],
+                "split_levels": ["index", "kind", "gap", "insert"]},
+    "loads": {"loaded": ["rule", "kind", "number"], "load_pages": ["rule", "kind", "number", "level"],
+              "load_height": ["rule", "kind", "number"], "first_height": ["rule", "kind", "height"],
+              "first_more": ["rule", "second", "kind", "level"]},
+    "parting": {"unlike_page": ["index", "second"], "parting_run": ["index", "second"]},
+}
 LIBRARY = ("heapq", "math", "itertools", "collections")
 
 
@@ -31,6 +45,18 @@ class FormTest(unittest.TestCase):
                 if isinstance(node, ast.FunctionDef):
                     lines = node.end_lineno - node.lineno + 1
                     self.assertLessEqual(lines, 40, (name, node.name))
+
+    def test_interface(self):
+        for name, listed in INTERFACE.items():
+            body = ast.parse(self.texts[f"{name}.py"]).body
+            defined = {node.name: node for node in body if isinstance(node, (ast.FunctionDef, ast.ClassDef))}
+            for word, parts in listed.items():
+                node = defined[word]
+                if isinstance(node, ast.FunctionDef):
+                    self.assertEqual([argument.arg for argument in node.args.args], parts, (name, word))
+                else:
+                    self.assertLessEqual(set(parts), {part.name for part in node.body
+                                                      if isinstance(part, ast.FunctionDef)}, (name, word))
 
     def test_imports(self):
         for name, text in self.texts.items():
