@@ -1,5 +1,7 @@
 """Tests of values that may be of any kind."""
 
+MOST_DIGITS = 100
+
 
 def is_integer(value):
     """Whether a value is an integer."""
@@ -8,7 +10,7 @@ def is_integer(value):
 
 def is_between(value, least, most):
     """Whether a value is an integer from the least to the most one."""
-    return is_integer(value) and least <= value <= most
+    return isinstance(value, int) and not isinstance(value, bool) and least <= value <= most
 
 
 def is_list(value, least, most):
@@ -24,3 +26,10 @@ def is_pair(value):
 def is_word(value, words):
     """Whether a value is one of these strings."""
     return isinstance(value, str) and value in words
+
+
+def is_decimal(text):
+    """Whether a string is a number of at most 100 digits, without zeros in front."""
+    if not text.isdigit() or not text.isascii() or len(text) > MOST_DIGITS:
+        return False
+    return text == "0" or text[0] != "0"

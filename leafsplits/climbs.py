@@ -1,57 +1,112 @@
-"""A run that never ends, looked at on one level after the other."""
+"""An endless run, looked at on one level after the other, the leaves first."""
 
-from leafsplits.arrivals import Arrivals
-from leafsplits.levels import items_ahead, page_ahead, replaced, size_at
-from leafsplits.rules import goes, most_held, stays
+from leafsplits.indexes import kept_levels
+from leafsplits.levels import gap_place, page_count, replaced
+from leafsplits.parameters import UP
+from leafsplits.progressions import far_item, steps_up_to
+from leafsplits.rules import inner_part, page_form
+from leafsplits.splitting import Splits, sides_met
+
+
+def _told(levels, at):
+    """A level, also one that is not there yet: a page with one child, as the split of the root brings the second."""
+    return levels[at] if at < len(levels) else [(1, 1)]
 
 
 class Climb:
-    """A run at one level of an index, first at its leaves.
-
-    `arrivals` are the inserts at which the level gets an item, `splits` those
-    at which one of its pages is split.
-    """
+    """An endless run at one level; `splits` are those of the page that it is in there."""
 
     def __init__(self, index, kind, gap):
         self._rule = index.rule
-        self._levels = index.levels
+        self._levels = kept_levels(index)
+        self._up = kind == UP
         self._at = 0
-        self._stand(Arrivals([], kind, 1, 1), gap)
+        self._stand(gap, [])
 
-    def _stand(self, arrivals, gap):
-        """Looks at the level, at which the run has this gap."""
-        # A level that is not there yet is one page with one child: the split
-        # of the root below gives it the second child.
-        is_there = self._at < len(self._levels)
-        self._told = self._levels[self._at] if is_there else [(1, 1)]
-        self._page = page_ahead(self._told, gap)
-        self._size = size_at(self._told, self._page)
-        ahead = gap - items_ahead(self._told, self._page)
-        most, stay = most_held(self._rule, self._at), stays(self._rule, self._at)
-        self.arrivals = arrivals
-        self.splits = arrivals.passed_on(most, stay, ahead, self._size - ahead)
+    def _stand(self, gap, kinds):
+        """Looks at the level, at which the run has this gap, and which gets items of these kinds first."""
+        told = _told(self._levels, self._at)
+        at, self._page, _, ahead = gap_place(told, gap)
+        self.splits = Splits(kinds, self._up, page_form(self._rule, self._at), (ahead, told[at][0] - ahead))
+        self._kinds = self.splits.kinds()
 
     def go_up(self):
         """Goes on to the next level."""
         self._at += 1
         # New pages are put right behind the page that the run is in.
-        self._stand(self.splits, self._page + 1)
+        self._stand(self._page + 1, self._kinds)
 
-    def told_behind(self, number):
-        """The level behind so many inserts."""
-        stay, go = stays(self._rule, self._at), goes(self._rule, self._at)
-        right = self.splits.many_of("up", number)
-        left = self.splits.many_of("down", number)
-        size = self._size + self.arrivals.many(number) - right * stay - left * go
+    def is_even(self):
+        """Whether all higher levels are new, and all their splits of the run's kind."""
+        return self._at + 1 >= len(self._levels) and not self._kinds
+
+
+def split_insert(index, kind, gap, level, count):
+    """The insert with the so-manieth split of a level that need not be there yet."""
+    climb = Climb(index, kind, gap)
+    passed = [climb.splits]
+    while len(passed) <= level and not climb.is_even():
+        climb.go_up()
+        passed.append(climb.splits)
+    higher = level + 1 - len(passed)
+    item = far_item(count, index.rule.inner, inner_part(index.rule, kind == UP), higher)
+    for splits in passed[::-1]:
+        item = splits.item_of(item)
+    return item
+
+
+def split_count(rule, levels, run, level):
+    """How many splits a level that need not be there yet has in a run, a tuple (kind, gap, number)."""
+    kind, gap, items = run
+    up = kind == UP
+    most, stay = page_form(rule, 0)
+    inner = page_form(rule, 1)
+    kinds = []
+    at = 0
+    while at <= level and items > 0 and (at < len(levels) or kinds):
+        told = _told(levels, at)
+        place, page, _, ahead = gap_place(told, gap)
+        right, left, kinds = sides_met(kinds, up, most, stay, ahead, told[place][0], items)
+        items = right + left
+        gap = page + 1
+        most, stay = inner
+        at += 1
+    part = inner_part(rule, up)
+    while at <= level and items > 0:
+        items = steps_up_to(rule.inner, part, items)
+        at += 1
+    return items
+
+
+def pages_behind(rule, levels, run, level):
+    """How many pages a level has behind a run, a tuple (kind, gap, number); 0 if it is not there then."""
+    if level < len(levels):
+        return page_count(levels[level]) + split_count(rule, levels, run, level)
+    if split_count(rule, levels, run, level - 1) == 0:
+        return 0
+    return 1 + split_count(rule, levels, run, level)
+
+
+def levels_behind(rule, levels, run, top):
+    """The levels behind a run, a tuple (kind, gap, number), up to a top one; higher ones are as they were."""
+    kind, gap, items = run
+    up = kind == UP
+    most, stay = page_form(rule, 0)
+    inner = page_form(rule, 1)
+    kinds = []
+    found = []
+    while items > 0 and len(found) <= top:
+        told = _told(levels, len(found))
+        place, page, inside, ahead = gap_place(told, gap)
+        size, times = told[place]
+        right, left, kinds = sides_met(kinds, up, most, stay, ahead, size, items)
+        go = most + 1 - stay
         # The part of a split page that the run leaves gets no more items, and
         # it is next to the page that the run is in.
-        pages = [(stay, right), (size, 1), (go, left)]
-        return replaced(self._told, self._page, self._page + 1, pages)
-
-
-def climbed(index, kind, gap, level):
-    """A run at a level that need not be there yet."""
-    climb = Climb(index, kind, gap)
-    for _ in range(level):
-        climb.go_up()
-    return climb
+        pages = ((size, inside), (stay, right), (size + items - right * stay - left * go, 1), (go, left),
+                 (size, times - inside - 1))
+        found.append(replaced(told, place, place, pages))
+        items = right + left
+        gap = page + 1
+        most, stay = inner
+    return found + levels[len(found):]

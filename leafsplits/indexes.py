@@ -50,7 +50,22 @@ def _check_levels(rule, levels):
             raise InvalidLevels(level)
 
 
-def _check_level(level, least, most):
+class SoundLevels:
+    """Levels that an index can have, told with unlike sizes side by side: they need not be checked again."""
+
+    def __init__(self, told):
+        self.told = told
+
+
+def _told_levels(rule, levels):
+    """The levels as an index keeps them; InvalidLevels unless the value tells the levels of an index."""
+    if isinstance(levels, SoundLevels):
+        return levels.told
+    _check_levels(rule, levels)
+    return [merged(level) for level in levels]
+
+
+def check_level(level, least, most):
     """Raises InvalidLevel unless the value is a level between these two."""
     if not is_between(level, least, most):
         raise InvalidLevel("not a level of the index, or not one that can be asked")
@@ -67,9 +82,9 @@ class PageIndex:
 
     def __init__(self, rule, levels):
         check_rule(rule)
-        _check_levels(rule, levels)
         self._rule = rule
-        self._levels = [merged(level) for level in levels]
+        self._levels = _told_levels(rule, levels)
+        self._entries = item_count(self._levels[0])
 
     @property
     def rule(self):
@@ -84,7 +99,7 @@ class PageIndex:
     @property
     def entries(self):
         """The number of entries."""
-        return item_count(self._levels[0])
+        return self._entries
 
     @property
     def height(self):
@@ -98,30 +113,30 @@ class PageIndex:
 
     def pages(self, level):
         """How many pages a level has."""
-        _check_level(level, 0, self.height - 1)
+        check_level(level, 0, self.height - 1)
         return page_count(self._levels[level])
 
     def size(self, level, page):
         """How many entries, or children, a page has."""
-        _check_level(level, 0, self.height - 1)
+        check_level(level, 0, self.height - 1)
         _check_page(self._levels[level], page)
         return size_at(self._levels[level], page)
 
     def above(self, level, page):
         """The page of the next level that holds a page."""
-        _check_level(level, 0, self.height - 2)
+        check_level(level, 0, self.height - 2)
         _check_page(self._levels[level], page)
         return page_with(self._levels[level + 1], page)
 
     def child(self, level, page):
         """The first child of a page."""
-        _check_level(level, 1, self.height - 1)
+        check_level(level, 1, self.height - 1)
         _check_page(self._levels[level], page)
         return items_ahead(self._levels[level], page)
 
     def span(self, level, page):
         """The tuple of the first and the last entry below a page."""
-        _check_level(level, 0, self.height - 1)
+        check_level(level, 0, self.height - 1)
         _check_page(self._levels[level], page)
         if self.entries == 0:
             raise InvalidPage("the index has no entries")
@@ -148,11 +163,14 @@ def new_index(rule):
     return PageIndex(rule, [[(0, 1)]])
 
 
+def kept_levels(index):
+    """The levels of an index as it keeps them: only to be read."""
+    return index._levels
+
+
 def built_index(rule, levels):
-    """The index with levels that an index can have, also where PageIndex would not take so many tuples."""
-    index = new_index(rule)
-    index._levels = [merged(level) for level in levels]
-    return index
+    """The index with levels that an index can have, told with unlike sizes side by side; nobody changes them later."""
+    return PageIndex(rule, SoundLevels(levels))
 
 
 def check_index(index):

@@ -28,7 +28,11 @@ def items_ahead(level, page):
 
 def size_at(level, page):
     """The size of a page."""
-    return items_ahead(level, page + 1) - items_ahead(level, page)
+    at = 0
+    while page >= level[at][1]:
+        page -= level[at][1]
+        at += 1
+    return level[at][0]
 
 
 def page_with(level, item):
@@ -42,34 +46,88 @@ def page_with(level, item):
     return page
 
 
-def page_ahead(level, gap):
-    """The page with the item right ahead of a gap, or the first page for the gap 0."""
-    return page_with(level, gap - 1) if gap > 0 else 0
+def gap_place(level, gap):
+    """The page with the item right ahead of a gap, or the first page for the gap 0.
 
-
-def part(level, first, behind):
-    """The pages from a first one on, up to one that is left out."""
-    found = []
-    page = 0
-    for size, times in level:
-        kept = min(page + times, behind) - max(page, first)
-        if kept > 0:
-            found.append((size, kept))
+    Returns the number of its tuple, the page, its number among those of the
+    tuple, and how many of its items are ahead of the gap.
+    """
+    if gap == 0:
+        return (0, 0, 0, 0)
+    at = page = 0
+    size, times = level[0]
+    held = size * times
+    while gap > held:
+        gap -= held
         page += times
+        at += 1
+        size, times = level[at]
+        held = size * times
+    inside, ahead = divmod(gap - 1, size)
+    return (at, page + inside, inside, ahead + 1)
+
+
+def replaced(level, first, last, pages):
+    """The level with other pages instead of those of the tuples from a first to a last one."""
+    found = level[:first]
+    size_ahead = found[-1][0] if first > 0 else None
+    for group in pages:
+        size, times = group
+        if size == size_ahead:
+            found[-1] = (size, found[-1][1] + times)
+        elif times > 0:
+            found.append(group)
+            size_ahead = size
+    behind = last + 1
+    if behind < len(level):
+        size, times = level[behind]
+        if size == size_ahead:
+            found[-1] = (size, found[-1][1] + times)
+            behind += 1
+        found += level[behind:]
     return found
 
 
-def replaced(level, first, behind, groups):
-    """The level with other pages instead of those from a first one on, up to one that stays."""
-    return part(level, 0, first) + groups + part(level, behind, page_count(level))
-
-
 def merged(level):
-    """The same level, told as a new list with unlike sizes side by side, each at least once."""
+    """The same level, told as a new list with unlike sizes side by side."""
     told = []
     for size, times in level:
         if told and told[-1][0] == size:
             told[-1] = (size, told[-1][1] + times)
-        elif times > 0:
+        else:
             told.append((size, times))
     return told
+
+
+def _taken(rest, many):
+    """How many entries so many pages hold; they are taken off the end of a list of tuples (entries, times)."""
+    entries = 0
+    while many > 0:
+        held, times = rest.pop()
+        some = min(times, many)
+        entries += some * held
+        many -= some
+        if times > some:
+            rest.append((held, times - some))
+    return entries
+
+
+def _held(below, level):
+    """How many entries the pages of a level hold, if those of the level below hold so many."""
+    found = []
+    rest = below[::-1]
+    for size, times in level:
+        while times > 0:
+            # At once as many pages as have children that all hold equally many.
+            pages = max(min(rest[-1][1] // size, times), 1)
+            found.append((_taken(rest, pages * size) // pages, pages))
+            times -= pages
+    return merged(found)
+
+
+def spans(levels):
+    """How many entries the pages of the highest one of these levels hold, told as a level is: (entries, times)."""
+    found = levels[0]
+    for level in levels[1:]:
+        found = _held(found, level)
+    return found

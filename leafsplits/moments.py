@@ -1,9 +1,9 @@
 """The inserts of a run at which the pages of a level are split."""
 
 from leafsplits.checks import is_between
-from leafsplits.climbs import Climb, climbed
+from leafsplits.climbs import Climb, split_count, split_insert
 from leafsplits.errors import InvalidNumber
-from leafsplits.indexes import check_index
+from leafsplits.indexes import check_index, kept_levels
 from leafsplits.parameters import check_any_level, check_gap, check_kind, check_number
 
 MOST_INSERT = 10 ** 60
@@ -16,7 +16,7 @@ def splits(index, kind, gap, number, level):
     check_gap(index, gap)
     check_number(number)
     check_any_level(level)
-    return climbed(index, kind, gap, level).splits.many(number)
+    return split_count(index.rule, kept_levels(index), (kind, gap, number), level)
 
 
 def split_moment(index, kind, gap, level, count):
@@ -26,7 +26,7 @@ def split_moment(index, kind, gap, level, count):
     check_gap(index, gap)
     check_any_level(level)
     check_number(count)
-    return climbed(index, kind, gap, level).splits.moment(count)
+    return split_insert(index, kind, gap, level, count)
 
 
 def split_levels(index, kind, gap, insert):
@@ -36,10 +36,12 @@ def split_levels(index, kind, gap, insert):
     check_gap(index, gap)
     if not is_between(insert, 1, MOST_INSERT):
         raise InvalidNumber("not an integer from 1 to 10 ** 60")
-    # A page is split only where one of the level below is.
+    # Each level gets an item where a page of the level below is split.
     levels = 0
     climb = Climb(index, kind, gap)
-    while climb.splits.has(insert):
+    item = climb.splits.count_at(insert)
+    while item > 0:
         levels += 1
         climb.go_up()
+        item = climb.splits.count_at(item)
     return levels

@@ -3,8 +3,10 @@
 from leafsplits.checks import is_between, is_word
 from leafsplits.errors import InvalidEntry, InvalidGap, InvalidKind, InvalidLevel, InvalidNumber
 
-KINDS = ("up", "down")
+UP = "up"
 DROP = "drop"
+KINDS = ("up", "down")
+WORDS = ("up", "down", "drop")
 MOST_NUMBER = 10 ** 30
 MOST_LEVEL = 200
 
@@ -34,15 +36,21 @@ def is_last_entry(index, first, last):
     return is_between(last, first, index.entries)
 
 
+def is_run(index, item):
+    """Whether a value is a tuple (kind, gap, number) of a run that the index can take."""
+    if not isinstance(item, tuple) or len(item) != 3:
+        return False
+    kind, gap, number = item
+    return is_kind(kind) and is_gap(index, gap) and is_number(number)
+
+
 def is_step(index, step):
     """Whether a value is a step that the index can take."""
     if not isinstance(step, tuple) or len(step) != 3:
         return False
     word, first, second = step
-    if is_kind(word):
-        return is_gap(index, first) and is_number(second)
     if not is_word(word, (DROP,)):
-        return False
+        return is_run(index, step)
     return is_first_entry(index, first) and is_last_entry(index, first, second)
 
 

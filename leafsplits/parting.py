@@ -1,9 +1,10 @@
 """What parts two indexes by one rule."""
 
-from leafsplits.climbs import climbed
+from leafsplits.climbs import split_insert
 from leafsplits.errors import UnlikeRules
-from leafsplits.indexes import check_index
+from leafsplits.indexes import check_index, kept_levels
 from leafsplits.levels import page_count
+from leafsplits.parameters import UP
 
 
 def _check_alike(index, second):
@@ -28,11 +29,16 @@ def _first_unlike(level, second):
 
 def _first_page(index, second):
     """The tuple (level, page) of the first page that is not the same, or None."""
-    for at, (level, other) in enumerate(zip(index.levels, second.levels)):
+    for at, (level, other) in enumerate(zip(kept_levels(index), kept_levels(second))):
         if level != other:
             return (at, _first_unlike(level, other))
     # The lowest level of one page is the last one, so none is left over.
     return None
+
+
+def _page_counts(index):
+    """How many pages each level has."""
+    return [page_count(level) for level in kept_levels(index)]
 
 
 def unlike_page(index, second):
@@ -47,11 +53,11 @@ def parting_run(index, second):
     found = _first_page(index, second)
     if found is None:
         return None
-    if [page_count(level) for level in index.levels] != [page_count(level) for level in second.levels]:
+    if _page_counts(index) != _page_counts(second):
         return ()
     level, page = found
     gap = 0 if 0 in (index.entries, second.entries) else index.span(level, page)[0]
     # All below the page is the same in both, and so is what comes to it: the
     # one with more items is the first one that is split.
-    moments = [climbed(one, "up", gap, level).splits.moment(1) for one in (index, second)]
+    moments = [split_insert(one, UP, gap, level, 1) for one in (index, second)]
     return (gap, min(moments))

@@ -86,11 +86,16 @@ def most_held(rule, level):
     return rule.leaf if level == 0 else rule.inner
 
 
-def stays(rule, level):
-    """How many items stay in a page of a level that is split."""
-    return rule.leaf_stays if level == 0 else rule.inner_stays
+def page_form(rule, level):
+    """How many items a page of a level holds at most, and how many stay where it is split."""
+    return (rule.leaf, rule.leaf_stays) if level == 0 else (rule.inner, rule.inner_stays)
 
 
-def goes(rule, level):
-    """How many items of a page of a level that is split go to the new one."""
-    return rule.leaf_goes if level == 0 else rule.inner_goes
+def leaf_part(rule, up):
+    """How many entries a leaf has that a run from nothing leaves behind."""
+    return rule.leaf_stays if up else rule.leaf_goes
+
+
+def inner_part(rule, up):
+    """How many children a page above has that a run from nothing leaves behind."""
+    return rule.inner_stays if up else rule.inner_goes

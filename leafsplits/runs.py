@@ -1,10 +1,10 @@
 """Runs and drops, and scripts of them."""
 
-from leafsplits.checks import is_list
+from leafsplits.checks import is_list, is_word
 from leafsplits.errors import InvalidScript
 from leafsplits.indexes import check_index
 from leafsplits.parameters import DROP, check_entries, check_gap, check_kind, check_number, is_step
-from leafsplits.steps import behind_drop, behind_run
+from leafsplits.steps import behind_drop, behind_run, behind_step
 
 MOST_STEPS = 12
 
@@ -15,7 +15,7 @@ def run(index, kind, gap, number):
     check_kind(kind)
     check_gap(index, gap)
     check_number(number)
-    return behind_run(index, kind, gap, number)
+    return behind_run(index, (kind, gap, number))
 
 
 def dropped(index, first, last):
@@ -25,12 +25,12 @@ def dropped(index, first, last):
     return behind_drop(index, first, last)
 
 
-def _behind_step(index, step):
-    """The index behind a step that it can take."""
+def behind_call(index, step):
+    """The index behind a step that may be no valid one, with the errors of run and dropped."""
     word, first, second = step
-    if word == DROP:
-        return behind_drop(index, first, second)
-    return behind_run(index, word, first, second)
+    if is_word(word, (DROP,)):
+        return dropped(index, first, second)
+    return run(index, word, first, second)
 
 
 def played(index, script):
@@ -42,5 +42,5 @@ def played(index, script):
     for at, step in enumerate(script):
         if not is_step(present, step):
             raise InvalidScript(at)
-        present = _behind_step(present, step)
+        present = behind_step(present, step)
     return present

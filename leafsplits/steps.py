@@ -1,19 +1,17 @@
 """Indexes behind runs and drops that are known to be valid ones."""
 
-from leafsplits.climbs import Climb
-from leafsplits.indexes import built_index, new_index
-from leafsplits.levels import items_ahead, page_count, page_with, replaced
+from leafsplits.climbs import levels_behind
+from leafsplits.indexes import built_index, kept_levels, new_index
+from leafsplits.levels import gap_place, replaced
+from leafsplits.parameters import DROP
 
 
-def behind_run(index, kind, gap, number):
-    """The index behind a run."""
-    levels = index.levels
-    grown = []
-    climb = Climb(index, kind, gap)
-    while climb.arrivals.many(number) > 0:
-        grown.append(climb.told_behind(number))
-        climb.go_up()
-    return built_index(index.rule, grown + levels[len(grown):])
+def behind_run(index, run):
+    """The index behind a run, a tuple (kind, gap, number)."""
+    levels = kept_levels(index)
+    # Each insert brings at most one new level.
+    highest = len(levels) + run[2]
+    return built_index(index.rule, levels_behind(index.rule, levels, run, highest))
 
 
 def _cut(level, first, behind):
@@ -21,14 +19,16 @@ def _cut(level, first, behind):
 
     These, too, are told by the first one and by the one that stays behind them.
     """
-    page, last = page_with(level, first), page_with(level, behind - 1)
-    ahead = first - items_ahead(level, page)
-    left = items_ahead(level, last + 1) - behind
-    sizes = [ahead + left] if page == last else [ahead, left]
-    kept = [(size, 1) for size in sizes if size > 0]
-    gone = page + 1 if ahead > 0 else page
-    many = last + 1 - page - len(kept)
-    return (replaced(level, page, last + 1, kept), gone, gone + many)
+    start, page, inside, placed = gap_place(level, first + 1)
+    end, last, end_inside, gone = gap_place(level, behind)
+    size, _ = level[start]
+    end_size, end_times = level[end]
+    ahead, left = placed - 1, end_size - gone
+    if page == last:
+        ahead, left = ahead + left, 0
+    begun, ended = min(ahead, 1), min(left, 1)
+    pages = ((size, inside), (ahead, begun), (left, ended), (end_size, end_times - end_inside - 1))
+    return (replaced(level, start, end, pages), page + begun, last + 1 - ended)
 
 
 def behind_drop(index, first, last):
@@ -36,13 +36,22 @@ def behind_drop(index, first, last):
     if first == 1 and last == index.entries:
         return new_index(index.rule)
     gone, behind = first - 1, last
-    kept = []
-    for level in index.levels:
-        if gone == behind:
-            kept.append(level)
-        else:
+    found = []
+    for level in kept_levels(index):
+        if gone < behind:
             told, gone, behind = _cut(level, gone, behind)
-            kept.append(told)
-        if page_count(kept[-1]) == 1:
+            found.append(told)
+        else:
+            found.append(level)
+        # A level of one page is the root's.
+        if len(found[-1]) == 1 and found[-1][0][1] == 1:
             break
-    return built_index(index.rule, kept)
+    return built_index(index.rule, found)
+
+
+def behind_step(index, step):
+    """The index behind a step that it can take."""
+    word, first, second = step
+    if word == DROP:
+        return behind_drop(index, first, second)
+    return behind_run(index, step)

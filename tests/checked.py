@@ -10,6 +10,9 @@ from leafsplits.indexes import PageIndex
 from leafsplits.rules import Rule
 
 MOST_LINES = 200000
+FIELDS = {errors.InvalidRule: "item", errors.InvalidLevels: "level", errors.InvalidScript: "step",
+          errors.InvalidRuns: "item", errors.InvalidSeen: "item", errors.InvalidText: "part",
+          errors.OverBudget: "count"}
 
 NO_RULES = NO_INTEGERS + (0, 3, (3, 2, 3, 2), [3, 2, 3, 2], "3 2 3 2", Rule,
                           PageIndex(Rule(3, 2, 3, 2), [[(3, 1)]]))
@@ -44,8 +47,12 @@ def no_number(most=10 ** 30):
     return [(value, errors.InvalidNumber) for value in numbers_beyond(1, most)]
 
 
-def no_level():
-    return [(value, errors.InvalidLevel) for value in numbers_beyond(0, 200)]
+def no_level(most=200):
+    return [(value, errors.InvalidLevel) for value in numbers_beyond(0, most)]
+
+
+def no_entry(least, most):
+    return [(value, errors.InvalidEntry) for value in numbers_beyond(least, most)]
 
 
 def seen(value):
@@ -69,12 +76,16 @@ def told(model):
 class Checked(unittest.TestCase):
     def at_once(self, function, *parameters):
         """What a function returns, if it does not go through too many lines for it."""
+        return self.within(MOST_LINES, function, *parameters)
+
+    def within(self, most, function, *parameters):
+        """What a function returns, if it goes through at most so many lines, calls and returns for it."""
         lines = 0
 
         def trace(frame, event, argument):
             nonlocal lines
             lines += 1
-            if lines > MOST_LINES:
+            if lines > most:
                 raise AssertionError("this takes too long")
             return trace
 
@@ -108,9 +119,9 @@ class Checked(unittest.TestCase):
         with self.assertRaises(errors.PageError) as caught:
             function(*parameters)
         self.assertIs(type(caught.exception), error, (function, parameters))
-        if error in (errors.InvalidRule, errors.InvalidScript):
-            item = caught.exception.item if error is errors.InvalidRule else caught.exception.step
-            self.assertEqual((type(item), item), (type(field), field), (function, parameters))
+        if error in FIELDS:
+            told_field = getattr(caught.exception, FIELDS[error])
+            self.assertEqual((type(told_field), told_field), (type(field), field), (function, parameters))
         self.assertTrue([seen(value) for value in parameters] == before, (function, parameters))
 
     def assert_wrong(self, function, *parameters):

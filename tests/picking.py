@@ -54,6 +54,14 @@ def some_levels(picks, numbers, leaves):
     return levels
 
 
+def some_step(picks, entries, most):
+    """A step for an index with so many entries; a run has at most so many."""
+    if entries > 0 and picks.among(0, 2) == 0:
+        first = picks.great(1, entries)
+        return ("drop", first, picks.great(first, entries))
+    return (picks.one(("up", "down")), picks.great(0, entries), picks.great(1, most))
+
+
 def great_rule(picks):
     """The numbers of a rule whose pages hold any numbers of items up to 10 ** 30."""
     numbers = ()
