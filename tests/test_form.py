@@ -18,6 +18,18 @@ INTERFACE = {
               "load_height": ["rule", "kind", "number"], "first_height": ["rule", "kind", "height"],
               "first_more": ["rule", "second", "kind", "level"]},
     "parting": {"unlike_page": ["index", "second"], "parting_run": ["index", "second"]},
+    "inserts": {"fewest_leaves": ["index", "number"], "most_leaves": ["index", "number"],
+                "sure_from": ["index", "leaves"], "possible_from": ["index", "leaves"],
+                "leaves_script": ["index", "number", "leaves"]},
+    "ranges": {"touched": ["index", "level", "first", "last"], "touched_in_all": ["index", "level", "length"],
+               "mean_touched": ["index", "level", "length"]},
+    "orders": {"least_order": ["index", "runs", "level"], "most_order": ["index", "runs", "level"],
+               "commute": ["index", "one", "other"]},
+    "fitting": {"fitting_rules": ["kind", "seen", "most"]},
+    "texts": {"show_rule": ["rule"], "show_index": ["index"], "read_rule": ["text"], "read_index": ["text"]},
+    "live": {"LiveIndex": ["present", "run", "drop", "undo", "log", "all_pages", "preview", "__eq__"],
+             "BudgetIndex": ["budget"]},
+    "console": {"Console": ["execute"]},
 }
 LIBRARY = ("heapq", "math", "itertools", "collections")
 
