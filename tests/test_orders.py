@@ -88,7 +88,7 @@ class SmallTest(Checked):
                 levels = some_levels(picks, numbers, picks.among(0, 9))
                 entries = sum(size * times for size, times in levels[0])
                 matter += self.compare(numbers, levels, some_runs(picks, entries, many, 12))
-        self.assertGreater(matter, 100)
+        self.assertGreater(matter, 60)
 
     def test_three_to_five_runs(self):
         picks = Picks(72)
@@ -174,7 +174,7 @@ class GreatTest(Checked):
                     for _ in range(picks.one((1, 2, 2, 3)))]
             height = index.height
             matter += self.compare(index, runs, (0, 1, height - 1, height, 200))
-        self.assertGreater(matter, 30)
+        self.assertGreater(matter, 15)
 
     def test_five_runs(self):
         index = loaded(Rule(MANY, MANY // 2, 9, 4), "up", MANY)
