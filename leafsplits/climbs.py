@@ -5,7 +5,7 @@ from leafsplits.levels import gap_place, page_count, replaced
 from leafsplits.parameters import UP
 from leafsplits.progressions import far_item, steps_up_to
 from leafsplits.rules import inner_part, page_form
-from leafsplits.splitting import Splits, sides_met
+from leafsplits.splitting import Splits, page_met
 
 
 def _told(levels, at):
@@ -59,17 +59,15 @@ def split_count(rule, levels, run, level):
     """How many splits a level that need not be there yet has in a run, a tuple (kind, gap, number)."""
     kind, gap, items = run
     up = kind == UP
-    most, stay = page_form(rule, 0)
-    inner = page_form(rule, 1)
+    form, inner = page_form(rule, 0), page_form(rule, 1)
     kinds = []
     at = 0
     while at <= level and items > 0 and (at < len(levels) or kinds):
         told = _told(levels, at)
         place, page, _, ahead = gap_place(told, gap)
-        right, left, kinds = sides_met(kinds, up, most, stay, ahead, told[place][0], items)
-        items = right + left
+        _, items, kinds = page_met(kinds, up, form, ahead, told[place][0], items)
         gap = page + 1
-        most, stay = inner
+        form = inner
         at += 1
     part = inner_part(rule, up)
     while at <= level and items > 0:
@@ -91,22 +89,15 @@ def levels_behind(rule, levels, run, top):
     """The levels behind a run, a tuple (kind, gap, number), up to a top one; higher ones are as they were."""
     kind, gap, items = run
     up = kind == UP
-    most, stay = page_form(rule, 0)
-    inner = page_form(rule, 1)
+    form, inner = page_form(rule, 0), page_form(rule, 1)
     kinds = []
     found = []
     while items > 0 and len(found) <= top:
         told = _told(levels, len(found))
         place, page, inside, ahead = gap_place(told, gap)
         size, times = told[place]
-        right, left, kinds = sides_met(kinds, up, most, stay, ahead, size, items)
-        go = most + 1 - stay
-        # The part of a split page that the run leaves gets no more items, and
-        # it is next to the page that the run is in.
-        pages = ((size, inside), (stay, right), (size + items - right * stay - left * go, 1), (go, left),
-                 (size, times - inside - 1))
-        found.append(replaced(told, place, place, pages))
-        items = right + left
+        pages, items, kinds = page_met(kinds, up, form, ahead, size, items)
+        found.append(replaced(told, place, inside, place, times - inside - 1, pages))
         gap = page + 1
-        most, stay = inner
+        form = inner
     return found + levels[len(found):]

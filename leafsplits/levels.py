@@ -67,10 +67,15 @@ def gap_place(level, gap):
     return (at, page + inside, inside, ahead + 1)
 
 
-def replaced(level, first, last, pages):
-    """The level with other pages instead of those of the tuples from a first to a last one."""
+def replaced(level, first, ahead, last, behind, pages):
+    """The level with other pages instead of those of the tuples from a first to a last one.
+
+    So many pages of the first tuple stay ahead of them, and so many of the last one behind them.
+    """
     found = level[:first]
-    size_ahead = found[-1][0] if first > 0 else None
+    if ahead > 0:
+        found.append((level[first][0], ahead))
+    size_ahead = found[-1][0] if found else None
     for group in pages:
         size, times = group
         if size == size_ahead:
@@ -78,13 +83,15 @@ def replaced(level, first, last, pages):
         elif times > 0:
             found.append(group)
             size_ahead = size
-    behind = last + 1
-    if behind < len(level):
-        size, times = level[behind]
-        if size == size_ahead:
-            found[-1] = (size, found[-1][1] + times)
-            behind += 1
-        found += level[behind:]
+    next_size, next_times = level[last][0], behind
+    if behind == 0 and last + 1 < len(level):
+        last += 1
+        next_size, next_times = level[last]
+    if next_size == size_ahead:
+        found[-1] = (size_ahead, found[-1][1] + next_times)
+    elif next_times > 0:
+        found.append((next_size, next_times))
+    found += level[last + 1:]
     return found
 
 

@@ -99,16 +99,27 @@ class Splits:
         return found
 
 
-def sides_met(kinds, up, most, stay, ahead, size, item):
-    """How many splits go right and how many stay left up to an item, and the first kinds for the level above."""
+def page_met(kinds, up, page, ahead, size, items):
+    """What becomes of a page of a level that gets so many items in all.
+
+    Returns the pages that are there then, as a level tells them, how many
+    splits there were, and the first kinds for the level above. The part of a
+    split page that the run leaves gets no more items, and it is next to the
+    part that the run is in.
+    """
+    most, stay = page
+    go = most + 1 - stay
     # Nearly all pages that a run meets are split in its own kind alone. These
     # are told apart first, as a run may meet a page on very many levels.
     if not kinds:
         first = most + 1 - size
         if up and ahead + first > stay:
-            return (steps_up_to(first, stay, item), 0, kinds)
+            right = steps_up_to(first, stay, items)
+            return (((stay, right), (size + items - right * stay, 1)), right, kinds)
         if not up and ahead <= stay:
-            return (0, steps_up_to(first, most + 1 - stay, item), kinds)
-    splits = Splits(kinds, up, (most, stay), (ahead, size - ahead))
-    right, left = splits.sides(item)
-    return (right, left, splits.kinds())
+            left = steps_up_to(first, go, items)
+            return (((size + items - left * go, 1), (go, left)), left, kinds)
+    splits = Splits(kinds, up, page, (ahead, size - ahead))
+    right, left = splits.sides(items)
+    pages = ((stay, right), (size + items - right * stay - left * go, 1), (go, left))
+    return (pages, right + left, splits.kinds())

@@ -21,14 +21,13 @@ def _cut(level, first, behind):
     """
     start, page, inside, placed = gap_place(level, first + 1)
     end, last, end_inside, gone = gap_place(level, behind)
-    size, _ = level[start]
-    end_size, end_times = level[end]
-    ahead, left = placed - 1, end_size - gone
+    size, times = level[end]
+    ahead, left = placed - 1, size - gone
     if page == last:
         ahead, left = ahead + left, 0
     begun, ended = min(ahead, 1), min(left, 1)
-    pages = ((size, inside), (ahead, begun), (left, ended), (end_size, end_times - end_inside - 1))
-    return (replaced(level, start, end, pages), page + begun, last + 1 - ended)
+    told = replaced(level, start, inside, end, times - end_inside - 1, ((ahead, begun), (left, ended)))
+    return (told, page + begun, last + 1 - ended)
 
 
 def behind_drop(index, first, last):
