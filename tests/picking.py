@@ -9,11 +9,9 @@ class Picks:
 
     def among(self, least, most):
         """A number from the least to the most one."""
-        number = 0
-        for _ in range((most - least).bit_length() // 32 + 2):
-            self.state = (self.state * 6364136223846793005 + 1442695040888963407) % 2 ** 64
-            number = number * 2 ** 32 + (self.state >> 32)
-        return least + number % (most - least + 1)
+        self.state = (self.state * 6364136223846793005 + 1442695040888963407) % 2 ** 64
+        high = self.state >> 16
+        return least + (high * 2 ** 60 + high) % (most - least + 1)
 
     def great(self, least, most):
         """A number from the least to the most one, of any number of digits."""
@@ -23,6 +21,18 @@ class Picks:
     def one(self, values):
         """One of some values."""
         return values[self.among(0, len(values) - 1)]
+
+
+class EvenPicks(Picks):
+    """Picks that are spread evenly in ranges of any length: those above always give the least one of 17 or 241."""
+
+    def among(self, least, most):
+        """A number from the least to the most one."""
+        number = 0
+        for _ in range((most - least).bit_length() // 32 + 2):
+            self.state = (self.state * 6364136223846793005 + 1442695040888963407) % 2 ** 64
+            number = number * 2 ** 32 + (self.state >> 32)
+        return least + number % (most - least + 1)
 
 
 def partings(held):

@@ -10,7 +10,7 @@ from leafsplits.live import LiveIndex
 from leafsplits.ranges import touched
 from leafsplits.rules import Rule
 from leafsplits.texts import read_index, read_rule, show_index
-from picking import Picks, all_rules, some_levels
+from picking import EvenPicks, all_rules, some_levels
 
 RULE = Rule(3, 2, 3, 2)
 SOME = PageIndex(RULE, [[(3, 2)], [(2, 1)]])
@@ -43,7 +43,7 @@ class CommandTest(Checked):
         self.refuses(errors.Nothing, None, console, "undo")
 
     def test_each_command(self):
-        picks = Picks(111)
+        picks = EvenPicks(111)
         for _ in range(80):
             numbers = picks.one(all_rules(3, 6))
             index = PageIndex(Rule(*numbers), some_levels(picks, numbers, picks.among(0, 8)))

@@ -6,7 +6,7 @@ from leafsplits.errors import InvalidKind, InvalidNumber, InvalidSeen
 from leafsplits.fitting import fitting_rules
 from leafsplits.loads import load_pages
 from leafsplits.rules import Rule
-from picking import Picks, partings
+from picking import EvenPicks, partings
 from putting import Put
 
 MANY = 10 ** 30
@@ -46,7 +46,7 @@ class ExampleTest(unittest.TestCase):
 
 class SmallTest(Checked):
     def test_against_every_rule(self):
-        picks = Picks(81)
+        picks = EvenPicks(81)
         for kind in ("up", "down"):
             counts = leaves_put(14, kind, 70)
             none = some = 0
@@ -104,7 +104,7 @@ class SmallTest(Checked):
 
 class GreatTest(Checked):
     def test_against_loads(self):
-        picks = Picks(82)
+        picks = EvenPicks(82)
         rules = [(leaf, stays) for leaf in range(3, 24) for stays in partings(leaf)]
         made = {numbers: Rule(*numbers, 3, 2) for numbers in rules}
         for _ in range(60):
@@ -117,7 +117,7 @@ class GreatTest(Checked):
             self.assertEqual(fitting_rules(kind, seen, 23), together(fitting), (kind, seen))
 
     def test_most(self):
-        picks = Picks(83)
+        picks = EvenPicks(83)
         for _ in range(30):
             leaf = picks.among(3, 1000)
             stays = picks.one(partings(leaf))

@@ -8,7 +8,7 @@ from leafsplits.inserts import fewest_leaves, leaves_script, most_leaves, possib
 from leafsplits.loads import loaded
 from leafsplits.rules import Rule
 from leafsplits.runs import dropped, run
-from picking import Picks, all_rules, great_levels, great_rule, partings
+from picking import EvenPicks, all_rules, great_levels, great_rule, partings
 from putting import Put
 
 RULE = Rule(3, 2, 3, 2)
@@ -132,7 +132,7 @@ class SmallTest(ScriptChecked):
                 self.compare(numbers, sizes, 6)
 
     def test_sizes_in_any_sequence(self):
-        picks = Picks(51)
+        picks = EvenPicks(51)
         for numbers in leaf_rules(9):
             self.compare(numbers, [picks.among(1, numbers[0]) for _ in range(picks.among(3, 9))], 4)
 
@@ -156,7 +156,7 @@ class SmallTest(ScriptChecked):
 
 class FactTest(ScriptChecked):
     def test_against_pages(self):
-        picks = Picks(52)
+        picks = EvenPicks(52)
         for numbers in all_rules(3, 5)[::3]:
             for _ in range(6):
                 sizes = [picks.among(1, numbers[0]) for _ in range(picks.among(1, 12))]
@@ -195,7 +195,7 @@ class GreatTest(ScriptChecked):
         self.assertTrue(possible_from(index, leaves) <= sure_from(index, leaves))
 
     def test_great_indexes(self):
-        picks = Picks(53)
+        picks = EvenPicks(53)
         for at in range(300):
             numbers = great_rule(picks)
             levels = [[(0, 1)]] if at % 9 == 0 else great_levels(picks, numbers)
@@ -244,7 +244,7 @@ class GreatTest(ScriptChecked):
             self.assertEqual(most_leaves(full, MANY), 2 + (MANY - 1) // steady)
 
     def test_scripts_of_great_numbers(self):
-        picks = Picks(54)
+        picks = EvenPicks(54)
         for _ in range(150):
             leaf = picks.one((MANY, picks.great(3, MANY), picks.great(3, 10 ** 20)))
             numbers = (leaf, picks.one((max(2, (leaf + 4) // 4), (leaf + 1) // 2)), 5, 2)
@@ -271,7 +271,7 @@ class GreatTest(ScriptChecked):
         self.assertLessEqual(self.assert_script(index, MANY, 101), 3)
 
     def test_hundred_leaves(self):
-        picks = Picks(55)
+        picks = EvenPicks(55)
         numbers = (9, 3, 4, 3)
         index = index_of(numbers, [picks.among(1, 9) for _ in range(100)])
         for number in (1, 7, 40, 300, 900):

@@ -8,7 +8,7 @@ from leafsplits.live import BudgetIndex, LiveIndex
 from leafsplits.loads import loaded
 from leafsplits.rules import Rule
 from leafsplits.runs import dropped, played, run
-from picking import Picks, all_rules, full_path_levels, great_levels, great_rule, some_levels, some_step
+from picking import EvenPicks, all_rules, full_path_levels, great_levels, great_rule, some_levels, some_step
 from putting import Put
 
 RULE = Rule(3, 2, 3, 2)
@@ -62,7 +62,7 @@ class LiveChecked(Checked):
 
 class CallTest(LiveChecked):
     def test_against_pages(self):
-        picks = Picks(101)
+        picks = EvenPicks(101)
         for _ in range(120):
             numbers = picks.one(all_rules(3, 6))
             levels = some_levels(picks, numbers, picks.among(0, 8))
@@ -110,7 +110,7 @@ class CallTest(LiveChecked):
         self.assertEqual(live.all_pages(), 1)
 
     def test_two_hundred_calls(self):
-        picks = Picks(102)
+        picks = EvenPicks(102)
         index = loaded(RULE, "up", MANY)
         live = LiveIndex(index)
         states = [(index, [])]
@@ -122,7 +122,7 @@ class CallTest(LiveChecked):
         self.assert_undone(live, states)
 
     def test_great_indexes(self):
-        picks = Picks(103)
+        picks = EvenPicks(103)
         for _ in range(60):
             numbers = great_rule(picks)
             index = PageIndex(Rule(*numbers), great_levels(picks, numbers))
@@ -162,7 +162,7 @@ class CallTest(LiveChecked):
 
 class PreviewTest(LiveChecked):
     def test_previews(self):
-        picks = Picks(104)
+        picks = EvenPicks(104)
         for many in range(13):
             for kind in (LiveIndex, BudgetIndex):
                 live = kind(SOME) if kind is LiveIndex else kind(SOME, 10 ** 40)
@@ -219,7 +219,7 @@ class BudgetTest(LiveChecked):
         self.assertEqual(BudgetIndex(great, count(great)).all_pages(), count(great))
 
     def test_calls(self):
-        picks = Picks(105)
+        picks = EvenPicks(105)
         for _ in range(150):
             numbers = picks.one((great_rule(picks), picks.one(all_rules(3, 6))))
             levels = some_levels(picks, numbers, picks.among(0, 8))

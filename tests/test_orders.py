@@ -10,7 +10,7 @@ from leafsplits.loads import loaded
 from leafsplits.orders import commute, least_order, most_order
 from leafsplits.rules import Rule
 from leafsplits.runs import run
-from picking import Picks, all_rules, full_path_levels, great_levels, great_rule, some_levels
+from picking import EvenPicks, all_rules, full_path_levels, great_levels, great_rule, some_levels
 from putting import Put
 
 RULE = Rule(3, 2, 3, 2)
@@ -81,7 +81,7 @@ class SmallTest(Checked):
         return matters
 
     def test_one_and_two_runs(self):
-        picks = Picks(71)
+        picks = EvenPicks(71)
         matter = 0
         for numbers in all_rules(3, 7):
             for many in (1, 2, 2):
@@ -91,7 +91,7 @@ class SmallTest(Checked):
         self.assertGreater(matter, 60)
 
     def test_three_to_five_runs(self):
-        picks = Picks(72)
+        picks = EvenPicks(72)
         matter = 0
         for many, times in ((3, 60), (4, 20), (5, 7)):
             for _ in range(times):
@@ -110,7 +110,7 @@ class SmallTest(Checked):
                         self.compare((3, 2, 3, 2), levels, list(zip(kinds, gaps, most)))
 
     def test_runs_at_one_gap(self):
-        picks = Picks(73)
+        picks = EvenPicks(73)
         for numbers in ((3, 2, 3, 2), (7, 2, 5, 3), (7, 6, 4, 3)):
             for gap in (0, 1, 5):
                 for many in (2, 3):
@@ -163,7 +163,7 @@ class GreatTest(Checked):
         return len(behind) > 1 and any(behind[0] != other for other in behind)
 
     def test_great_indexes(self):
-        picks = Picks(74)
+        picks = EvenPicks(74)
         matter = 0
         for at in range(120):
             numbers = great_rule(picks)

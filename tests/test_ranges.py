@@ -9,7 +9,7 @@ from leafsplits.loads import loaded
 from leafsplits.ranges import mean_touched, touched, touched_in_all
 from leafsplits.rules import Rule
 from leafsplits.runs import dropped, run
-from picking import Picks, full_path_levels, great_levels, great_rule
+from picking import EvenPicks, full_path_levels, great_levels, great_rule
 
 RULE = Rule(3, 2, 3, 2)
 THREE = PageIndex(RULE, [[(2, 2), (3, 1)], [(3, 1)]])
@@ -88,7 +88,7 @@ class SmallTest(Checked):
 
 class GreatTest(Checked):
     def test_few_great_leaves(self):
-        picks = Picks(61)
+        picks = EvenPicks(61)
         for _ in range(120):
             numbers = great_rule(picks)
             sizes = [(picks.one((numbers[0], picks.great(1, numbers[0]))), picks.among(1, 4)) for _ in range(4)]
@@ -130,7 +130,7 @@ class GreatTest(Checked):
                 self.assertEqual(found, first + 10 ** 28 * (second - first), (level, length))
 
     def test_two_halves(self):
-        picks = Picks(62)
+        picks = EvenPicks(62)
         for _ in range(200):
             numbers = great_rule(picks)
             index = PageIndex(Rule(*numbers), great_levels(picks, numbers))
@@ -174,7 +174,7 @@ class GreatTest(Checked):
                 self.assertEqual(self.at_once(touched_in_all, tall, level, length), expected)
 
     def test_behind_runs_and_drops(self):
-        picks = Picks(63)
+        picks = EvenPicks(63)
         index = loaded(RULE, "down", 500)
         for _ in range(12):
             index = run(index, picks.one(("up", "down")), picks.among(0, index.entries), picks.among(1, 40))

@@ -1,19 +1,27 @@
 import copy
 import unittest
 
-from checked import Checked, no_entry, no_gap, no_index, no_kind, no_number, numbers_beyond, told
+from checked import Checked, no_gap, no_index, no_kind, no_number, numbers_beyond, told
 from counting import NO_INTEGERS, Counted, Same
 from leafsplits.errors import InvalidEntry, InvalidScript
 from leafsplits.indexes import PageIndex, new_index
 from leafsplits.rules import Rule
 from leafsplits.runs import dropped, played, run
-from picking import Picks, all_rules, full_path_levels, great_levels, great_rule, some_levels, some_step
+from picking import Picks, all_rules, full_path_levels, great_levels, great_rule, some_levels
 from putting import Put
 
 RULE = Rule(3, 2, 3, 2)
 SOME = PageIndex(RULE, [[(3, 2)], [(2, 1)]])
 EXTREME_RULES = ((3, 2, 3, 2), (7, 2, 7, 2), (7, 6, 7, 6), (7, 2, 3, 2), (3, 2, 7, 6), (7, 6, 4, 2), (6, 5, 6, 2),
                  (4, 3, 5, 4), (5, 2, 4, 3))
+
+
+def step_of(picks, entries, most):
+    """A step for an index with so many entries."""
+    if entries > 0 and picks.among(0, 2) == 0:
+        first = picks.among(1, entries)
+        return ("drop", first, picks.among(first, entries))
+    return (picks.one(("up", "down")), picks.among(0, entries), picks.among(1, most))
 
 
 class ExampleTest(unittest.TestCase):
@@ -194,7 +202,7 @@ class ScriptTest(Checked):
             script = []
             behind = index
             for _ in range(picks.among(0, 12)):
-                step = some_step(picks, len(model.entries), 30)
+                step = step_of(picks, len(model.entries), 30)
                 model.step(step)
                 script.append(step)
                 behind = dropped(behind, *step[1:]) if step[0] == "drop" else run(behind, *step)
@@ -291,6 +299,9 @@ class WrongTest(Checked):
         self.assert_wrong(run, (new_index(RULE), no_index()), ("down", no_kind()), (0, no_gap(0)), (1, no_number()))
 
     def test_dropped(self):
+        def no_entry(least, most):
+            return [(value, InvalidEntry) for value in numbers_beyond(least, most)]
+
         self.assert_wrong(dropped, (SOME, no_index()), (1, no_entry(1, 6)), (1, no_entry(1, 6)))
         self.assert_wrong(dropped, (SOME, no_index()), (6, no_entry(1, 6)), (6, no_entry(6, 6)))
         for last in range(-1, 4):

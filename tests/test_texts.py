@@ -9,7 +9,7 @@ from leafsplits.parting import unlike_page
 from leafsplits.rules import Rule
 from leafsplits.runs import dropped, run
 from leafsplits.texts import read_index, read_rule, show_index, show_rule
-from picking import Picks, all_rules, full_path_levels, great_levels, great_rule, some_levels
+from picking import EvenPicks, all_rules, full_path_levels, great_levels, great_rule, some_levels
 
 RULE = Rule(3, 2, 3, 2)
 SOME = PageIndex(RULE, [[(3, 2)], [(2, 1)]])
@@ -27,7 +27,7 @@ class ExampleTest(unittest.TestCase):
 
 class RuleTest(Checked):
     def test_shown_and_read(self):
-        picks = Picks(91)
+        picks = EvenPicks(91)
         for numbers in [*all_rules(3, 7), *[great_rule(picks) for _ in range(200)], (MANY, MANY // 2, 3, 2)]:
             text = " ".join(str(number) for number in numbers)
             self.assertEqual(show_rule(Rule(*numbers)), text)
@@ -81,7 +81,7 @@ class IndexTest(Checked):
             self.assert_raises(InvalidText, index.height + 1, read_index, (text,))
 
     def test_shown_and_read(self):
-        picks = Picks(92)
+        picks = EvenPicks(92)
         for numbers in all_rules(3, 7):
             levels = some_levels(picks, numbers, picks.among(0, 10))
             self.assert_text(PageIndex(Rule(*numbers), levels))
